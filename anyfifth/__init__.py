@@ -1,0 +1,1 @@
+"""Anyfifth: what holds on the endless chain of fifths, decided for all fifths at once."""
