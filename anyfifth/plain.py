@@ -34,3 +34,15 @@ def integer_in(word, most):
     if figures[0] == "0" and word != "0":
         return None
     return int(word)
+
+
+def is_from_to(value, low, high):
+    """Whether any value is an integer from low to high."""
+    return is_int(value) and low <= value <= high
+
+
+def ascending(numbers):
+    """The ascending tuple of integers, each once."""
+    # Beside a class with an order, what is sorted must plainly be integers.
+    kept = {number: True for number in numbers}
+    return tuple(sorted([int(number) for number in kept]))

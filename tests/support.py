@@ -1,12 +1,32 @@
 """What the tests share: strict comparing, the check of an error, and the document's examples."""
 
+import itertools
+import time
+from fractions import Fraction
+
 from anyfifth import errors
 from anyfifth.pieces import Piece
 from anyfifth.ratios import Ratio
+from anyfifth.regions import Region
+from anyfifth.rings import Arc, Ring
+from anyfifth.sayings import All, At, Even
+from anyfifth.scales import Scale
+from anyfifth.tallies import Part, tally
+from anyfifth.terms import Height, Moving, Note
+from anyfifth.tones import Tone
 
 
 def any_values():
     """Values of all kinds that a caller may pass."""
+    return plain_values() + [
+        Region.every(), Tone(0), Tone(1, -1), Ring(Piece.whole()), Arc(0, 0, 1, 1, Tone(1)), Scale(), Scale(0, 1),
+        Note(0), Moving(1), Height(Tone(0), Note(0)), All(), At(Note(0), Moving(0)), tally(All()),
+        Even(Height(Tone(0), Note(0)), Height(Tone(0), Note(0))), Part(Piece.whole(), 1, 1, 0, Tone(1)),
+    ]
+
+
+def plain_values():
+    """Those of them that the first three files have."""
     return [
         None, True, False, 0, 1, 2, -1, 10 ** 60 - 1, -(10 ** 60 - 1), "", "a", "1", "1/2", "0/1 1/1", "\n",
         (), (1,), (1, 2), [], [1], [Ratio(1, 2)], {}, {"a": 1}, {1: [2]}, Ratio(0), Ratio(1), Ratio(2), Ratio(1, 2),
@@ -41,6 +61,51 @@ def check_raises(case, expected, call, *given, **named):
             case.fail(f"{error!r} {vars(error)} is not {expected!r} {vars(expected)}")
         return
     case.fail(f"{expected!r} was not raised for {given!r} {named!r}, but {returned!r} was returned")
+
+
+def check_first_raises(case, expected, call, *given, **named):
+    """The generator that call returns raises just this error, when its first item is requested at the latest."""
+    check_raises(case, expected, lambda: next(call(*given, **named)))
+
+
+def check_quick(case, call, *given, **named):
+    """What call returns, which must not take long."""
+    start = time.perf_counter()
+    returned = call(*given, **named)
+    case.assertLess(time.perf_counter() - start, 3)
+    return returned
+
+
+def exact(number):
+    return Fraction(number.top, number.bottom) if isinstance(number, Ratio) else Fraction(number)
+
+
+def ratio_of(fraction):
+    return Ratio(fraction.numerator, fraction.denominator)
+
+
+def row_to(most):
+    """All fractions from 0 to 1 with bottoms up to most, ascending."""
+    return sorted({Fraction(top, bottom) for bottom in range(1, most + 1) for top in range(bottom + 1)})
+
+
+def fifths_to(most):
+    """All fifths with bottoms up to most, ascending."""
+    return [ratio_of(one) for one in row_to(most)[1:-1]]
+
+
+def all_pieces(most):
+    """All pieces whose ends have bottoms up to most."""
+    row = row_to(most)
+    pairs = itertools.combinations(row, 2)
+    return [Piece(ratio_of(one), ratio_of(other)) for one, other in pairs
+            if one.denominator * other.numerator - one.numerator * other.denominator == 1]
+
+
+def key_of(note, fifth):
+    """The key of a note at a fifth, counted by whole octaves taken away."""
+    place = note * exact(fifth)
+    return int((place - place.__floor__()) * fifth.bottom)
 
 
 def check_examples(case, text, names):

@@ -1,7 +1,9 @@
 """The rules of the language that can be seen from the code by itself."""
 
 import ast
+import builtins
 import pathlib
+import re
 import unittest
 
 FOLDER = pathlib.Path(__file__).resolve().parent.parent / "anyfifth"
@@ -16,7 +18,11 @@ METHODS = {
 BUILTINS = {
     "len", "range", "enumerate", "zip", "min", "max", "sum", "abs", "sorted", "reversed", "int", "str", "bool",
     "list", "tuple", "dict", "set", "isinstance", "ord", "repr", "any", "all", "divmod", "ValueError",
-    "NotImplemented", "TypeError",
+    "NotImplemented", "TypeError", "iter",
+}
+BUILTIN_METHODS = {
+    "append", "extend", "pop", "index", "items", "values", "join", "split", "partition", "strip", "startswith",
+    "zfill", "isascii", "isdigit",
 }
 
 
@@ -75,7 +81,7 @@ class LanguageTest(unittest.TestCase):
     def test_no_statement_and_no_value_outside_the_language(self):
         # += is let in some places only; the package does without it.
         barred = (ast.AugAssign, ast.Global, ast.AsyncFunctionDef, ast.Await, ast.Div, ast.MatMult, ast.Set,
-                  ast.SetComp, ast.AnnAssign, ast.Lambda)
+                  ast.SetComp, ast.AnnAssign, ast.Lambda, ast.GeneratorExp, ast.Try, ast.NamedExpr, ast.With)
         for name, tree in self.each_tree():
             self.assertEqual(nodes(tree, *barred), [], name)
             for one in nodes(tree, ast.Constant):
@@ -84,7 +90,6 @@ class LanguageTest(unittest.TestCase):
                 self.assertNotIn("\x25", text)
 
     def test_builtins(self):
-        import builtins
         for name, tree in self.each_tree():
             used = {one.id for one in nodes(tree, ast.Name)} & set(dir(builtins))
             self.assertLessEqual(used, BUILTINS | DECORATORS, name)
@@ -93,7 +98,116 @@ class LanguageTest(unittest.TestCase):
         # Beside a class with an order these take plain numbers and strings alone.
         for name, tree in self.each_tree():
             used = {one.id for one in nodes(tree, ast.Name)}
-            self.assertEqual(used & {"sorted", "min", "max"}, set(), name)
+            self.assertEqual(used & {"min", "max"}, set(), name)
+            for one in calls_of(tree, "sorted"):
+                (row,), told = one.args, one.keywords
+                self.assertEqual(told, [])
+                self.assertTrue(isinstance(row, ast.ListComp) and ast.unparse(row.elt).startswith("int("), name)
+
+    def test_whole_rows_are_summed_and_asked(self):
+        for name, tree in self.each_tree():
+            for word in ("any", "all"):
+                for one in calls_of(tree, word):
+                    self.assertIsInstance(one.args[0], ast.ListComp, name)
+
+    def test_no_name_hides_a_class_or_an_import(self):
+        for name, tree in self.each_tree():
+            taken = {one.name for one in tree.body if isinstance(one, ast.ClassDef)}
+            taken |= {alias.name for one in nodes(tree, ast.ImportFrom) for alias in one.names}
+            bound = {one.arg for one in nodes(tree, ast.arg)}
+            bound |= {one.id for one in nodes(tree, ast.Name) if isinstance(one.ctx, ast.Store)}
+            self.assertEqual(taken & bound, set(), name)
+            bound |= {one.name for one in nodes(tree, ast.ClassDef)}
+            bound |= {one.name for one in tree.body if isinstance(one, ast.FunctionDef)}
+            self.assertEqual(bound & set(dir(builtins)), set(), name)
+            self.assertEqual(bound & {"register", "mro", "elements", "law", "version_info", "os", "gc"}, set(), name)
+
+    def test_methods_of_builtin_values(self):
+        own = set()
+        for name, tree in self.each_tree():
+            own |= {one.name for one in nodes(tree, ast.FunctionDef)}
+        for name, tree in self.each_tree():
+            for one in nodes(tree, ast.Call):
+                if isinstance(one.func, ast.Attribute):
+                    # A tone is called, and stands in a height.
+                    self.assertIn(one.func.attr, own | BUILTIN_METHODS | {"__init__", "tone"}, name)
+
+    def test_attributes_that_are_read_are_assigned(self):
+        given, read = set(), set()
+        for name, tree in self.each_tree():
+            given |= {one.name for one in nodes(tree, ast.FunctionDef)}
+            given |= {one.attr for one in nodes(tree, ast.Attribute) if isinstance(one.ctx, ast.Store)}
+            for one in nodes(tree, ast.ClassDef):
+                given |= {part.targets[0].id for part in one.body if isinstance(part, ast.Assign)}
+            read |= {one.attr for one in nodes(tree, ast.Attribute) if isinstance(one.ctx, ast.Load)}
+        self.assertLessEqual(read, given | BUILTIN_METHODS)
+
+    def test_comparing_and_measuring_assigns_nothing(self):
+        for name, tree in self.each_tree():
+            for one in nodes(tree, ast.FunctionDef):
+                if one.name in ("__eq__", "__str__", "__len__", "__lt__", "__le__", "__gt__", "__ge__", "__bool__"):
+                    self.assertEqual(nodes(one, ast.Assign), [], (name, one.name))
+
+    def test_barred_words(self):
+        words = {"type", "typing", "enum", "Enum", "Flag", "Generic", "Protocol", "ABC", "namedtuple", "dataclass",
+                 "overload", "contextmanager", "Meta", "metaclass", "_wall"}
+        for path in FILES:
+            found = set(re.findall("[A-Za-z_]+", path.read_text(encoding="ascii")))
+            self.assertEqual(found & words, set(), path.name)
+
+    def test_names_are_imported_from_where_they_are_defined_and_used(self):
+        defined = {}
+        for name, tree in self.each_tree():
+            own = [one.name for one in tree.body if isinstance(one, (ast.ClassDef, ast.FunctionDef))]
+            own = own + [target.id for one in tree.body if isinstance(one, ast.Assign) for target in one.targets]
+            self.assertEqual(len(set(own)), len(own), name)
+            defined["anyfifth." + name[:-3]] = own
+        for name, tree in self.each_tree():
+            used = {one.id for one in nodes(tree, ast.Name)}
+            for one in nodes(tree, ast.ImportFrom):
+                for alias in one.names:
+                    self.assertIn(alias.name, used, name)
+                    self.assertIn(alias.name, defined.get(one.module, LIBRARY.get(one.module)), name)
+
+    def test_no_file_stands_on_itself(self):
+        below = {}
+        for name, tree in self.each_tree():
+            below[name[:-3]] = {one.module[9:] for one in nodes(tree, ast.ImportFrom) if one.module[:9] == "anyfifth."}
+        while below:
+            free = [name for name, others in below.items() if not others & set(below)]
+            self.assertNotEqual(free, [], below)
+            below = {name: others for name, others in below.items() if name not in free}
+
+    def test_names_of_methods_mean_one_thing(self):
+        kinds, attributes = {}, set()
+        for name, tree in self.each_tree():
+            for one in nodes(tree, ast.FunctionDef):
+                if not one.name.startswith("__"):
+                    kinds.setdefault(one.name, set()).add(kind_of(one))
+            attributes |= {one.attr for one in nodes(tree, ast.Attribute) if isinstance(one.ctx, ast.Store)}
+        for name, found in kinds.items():
+            self.assertEqual(len(found), 1, (name, found))
+            self.assertNotIn(name, attributes - {"share"})
+        self.assertEqual(kinds["share"], {"plain"})
+
+    def test_what_is_gone_over_has_its_iterator(self):
+        for name, tree in self.each_tree():
+            for one in nodes(tree, ast.ClassDef):
+                methods = {part.name for part in one.body if isinstance(part, ast.FunctionDef)}
+                self.assertLessEqual({"__iter__"} if "__getitem__" in methods else set(), methods)
+                self.assertEqual(len(methods), len([part for part in one.body if isinstance(part, ast.FunctionDef)]))
+
+
+def calls_of(tree, name):
+    """All calls of what has this name alone."""
+    return [one for one in nodes(tree, ast.Call) if isinstance(one.func, ast.Name) and one.func.id == name]
+
+
+def kind_of(function):
+    """What a function or method is: by its decorator, a generator, or plain."""
+    for sign in function.decorator_list:
+        return sign.id
+    return "generator" if nodes(function, ast.Yield, ast.YieldFrom) else "plain"
 
 
 if __name__ == "__main__":

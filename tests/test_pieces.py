@@ -6,7 +6,8 @@ from math import gcd
 from anyfifth.errors import BadFifth, BadNumber, BadPiece, BadRatio, BadText, BadTruth
 from anyfifth.pieces import Piece, fractions_to, met, path, piece_at, pieces_to, ratio_by, simplest
 from anyfifth.ratios import Ratio
-from tests.support import any_values, check_examples, check_raises, check_same
+from tests.support import (
+    all_pieces, any_values, check_examples, check_raises, check_same, exact, ratio_of, row_to)
 
 EXAMPLES = """
 >>> from anyfifth.pieces import Piece, fractions_to, met, path, piece_at, pieces_to, ratio_by, simplest
@@ -30,27 +31,6 @@ raises BadFifth(Ratio(1, 2))
 LONG = 10 ** 39 + 7
 LONG_PIECE = Piece(Ratio(LONG - 1, LONG), 1)
 FAR_PIECE = Piece(Ratio(0), Ratio(1, LONG))
-
-
-def exact(number):
-    return Fraction(number.top, number.bottom) if isinstance(number, Ratio) else Fraction(number)
-
-
-def ratio_of(fraction):
-    return Ratio(fraction.numerator, fraction.denominator)
-
-
-def row_to(most):
-    """All fractions from 0 to 1 with bottoms up to most, ascending."""
-    return sorted({Fraction(top, bottom) for bottom in range(1, most + 1) for top in range(bottom + 1)})
-
-
-def all_pieces(most):
-    """All pieces whose ends have bottoms up to most."""
-    row = row_to(most)
-    pairs = itertools.combinations(row, 2)
-    return [Piece(ratio_of(one), ratio_of(other)) for one, other in pairs
-            if one.denominator * other.numerator - one.numerator * other.denominator == 1]
 
 
 class PieceTest(unittest.TestCase):

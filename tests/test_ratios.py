@@ -5,7 +5,7 @@ from fractions import Fraction
 from anyfifth.errors import BadRatio, BadText, NoDivisor
 from anyfifth.pieces import Piece
 from anyfifth.ratios import Ratio
-from tests.support import any_values, check_examples, check_raises, check_same
+from tests.support import any_values, check_examples, check_raises, check_same, exact
 
 EXAMPLES = """
 >>> from anyfifth.ratios import Ratio
@@ -29,10 +29,6 @@ LONG = [
 ]
 WHOLE = [-7, -2, -1, 0, 1, 2, 5, 10 ** 40 - 1, 1 - 10 ** 40]
 NUMBERS = SMALL + LONG + WHOLE
-
-
-def exact(number):
-    return Fraction(number.top, number.bottom) if isinstance(number, Ratio) else Fraction(number)
 
 
 class RatioTest(unittest.TestCase):
