@@ -319,19 +319,17 @@ def _first_spots(node):
 
 
 def _fractions_of(ends, node, most):
-    """The pairs (top, bottom) of the fractions of a node with bottoms up to most, ascending."""
+    """The pairs (top, bottom) of the fractions of a node with bottoms up to most; those with one bottom ascend."""
     a, b, c, d = ends
     if b + d > most:
         return []
     if is_branch(node):
         return [(a + c, b + d)] if node[0] else []
-    if node[:4] == EVERY[:4]:
-        return _fractions_between(ends, most)
     if node[3]:
         rows = _fractions_between(ends, most)
         return [(p, q) for p, q in rows if truth_at(node, c * q - d * p, b * p - a * q)]
     # Without the kind "other" there are so few that they are told by their spots.
-    spots = [(u, 1) for u in range(1, (most - d) // b + 1)][::-1]
+    spots = [(u, 1) for u in range(1, (most - d) // b + 1)]
     spots = spots + [(1, v) for v in range(2, (most - b) // d + 1)]
     return [(u * a + v * c, u * b + v * d) for u, v in spots if truth_at(node, u, v)]
 

@@ -21,9 +21,7 @@ class Saying:
     # Tells the classes from one another.
     WORD = ""
 
-    def __init__(self, many, deep, marks):
-        if many > Saying.MOST:
-            raise TooMany("comparisons", Saying.MOST)
+    def __init__(self, deep, marks):
         if deep > Saying.MOST_DEEP:
             raise TooMany("deep", Saying.MOST_DEEP)
         row = ascending([0, *marks])
@@ -66,15 +64,16 @@ class Saying:
 
     def moved(self, number):
         """The saying with each term moved."""
+        comparisons = _comparisons_in(self)
         # A term that cannot be moved comes ahead of a span that is too great.
-        for part in _comparisons_in(self):
+        for part in comparisons:
             for one in part.given():
                 one.moved(number)
-        return self.made([one.moved(number) for one in self.given()])
+        return self.made([one.moved(number) for one in self.given()]) if comparisons != [] else self
 
     def mirrored(self):
         """The saying that holds for -n at 1 - f exactly if this one holds for n at f."""
-        return self.made([one.mirrored() for one in self.given()])
+        return self.made([one.mirrored() for one in self.given()]) if _comparisons_in(self) != [] else self
 
     def __call__(self, n, fifth):
         """Whether it holds for n at a fraction."""
@@ -112,12 +111,26 @@ class Levelled(Saying):
 
 
 class Joined(Saying):
-    """The base of what is made of sayings."""
+    """The base of what is made of sayings. Each class below has joins(truths): whether it holds by theirs."""
 
     def __init__(self, sayings):
-        many = sum([len(_comparisons_in(saying)) for saying in sayings])
+        self._comparisons = [part for saying in sayings for part in _comparisons_in(saying)]
+        if len(self._comparisons) > Saying.MOST:
+            raise TooMany("comparisons", Saying.MOST)
         deep = 1 + ascending([0, *[saying.deep for saying in sayings]])[-1]
-        Saying.__init__(self, many, deep, [mark for saying in sayings for mark in saying.marks])
+        Saying.__init__(self, deep, [mark for saying in sayings for mark in saying.marks])
+        # Without comparisons it always holds or never. It may be made of so many
+        # sayings that they are asked only once.
+        self._fixed = None
+        if self._comparisons == []:
+            self._fixed = self.joins([saying.held([0], 0, 1)[0] for saying in sayings])
+
+    def held(self, numbers, top, bottom):
+        """Whether it holds, for each of these numbers."""
+        if self._fixed is not None:
+            return [self._fixed] * len(numbers)
+        rows = [saying.held(numbers, top, bottom) for saying in self.given()]
+        return [self.joins([row[at] for row in rows]) for at in range(len(numbers))]
 
 
 class Paired:
@@ -142,9 +155,9 @@ class At(Comparing, Paired):
         Paired.__init__(self, one, other)
         b, c = one.number, other.number
         if one.is_moving != other.is_moving:
-            Saying.__init__(self, 1, 1, [b - c if other.is_moving else c - b])
+            Saying.__init__(self, 1, [b - c if other.is_moving else c - b])
         else:
-            Saying.__init__(self, 1, 1, _marks_alike(one, other))
+            Saying.__init__(self, 1, _marks_alike(one, other))
 
     def made(self, given):
         """An At of two other terms."""
@@ -167,9 +180,9 @@ class Below(Comparing, Paired):
         if one.is_moving != other.is_moving:
             moving, fixed = (one, other) if one.is_moving else (other, one)
             b, c = moving.number, fixed.number
-            Saying.__init__(self, 1, 1, [-b, c - b, c])
+            Saying.__init__(self, 1, [-b, c - b, c])
         else:
-            Saying.__init__(self, 1, 1, _marks_alike(one, other))
+            Saying.__init__(self, 1, _marks_alike(one, other))
 
     def made(self, given):
         """A Below of two other terms."""
@@ -194,7 +207,7 @@ class Between(Comparing):
         moving = [term.number for term in self.given() if term.is_moving]
         fixed = [term.number for term in self.given() if not term.is_moving]
         marks = [c - b for c in fixed for b in moving]
-        Saying.__init__(self, 1, 1, marks if marks != [] else moving + fixed)
+        Saying.__init__(self, 1, marks if marks != [] else moving + fixed)
 
     def given(self):
         """The tuple of its arguments."""
@@ -218,7 +231,7 @@ class Higher(Levelled, Paired):
     def __init__(self, one, other):
         _check_heights([("one", one), ("other", other)])
         Paired.__init__(self, one, other)
-        Saying.__init__(self, 1, 1, _marks_of_heights(one, other))
+        Saying.__init__(self, 1, _marks_of_heights(one, other))
 
     def made(self, given):
         """A Higher of two other heights."""
@@ -237,7 +250,7 @@ class Even(Levelled, Paired):
     def __init__(self, one, other):
         _check_heights([("one", one), ("other", other)])
         Paired.__init__(self, one, other)
-        Saying.__init__(self, 1, 1, _marks_of_heights(one, other))
+        Saying.__init__(self, 1, _marks_of_heights(one, other))
 
     def made(self, given):
         """An Even of two other heights."""
@@ -248,10 +261,8 @@ class Even(Levelled, Paired):
         return [lead == 0 for lead in _leads(self.one, self.other, numbers, top, bottom)]
 
 
-class All(Joined):
-    """Each one of some sayings holds."""
-
-    WORD = "all"
+class Several(Joined):
+    """The base of All and Any, not made itself."""
 
     def __init__(self, *sayings):
         _check_sayings(sayings)
@@ -261,39 +272,34 @@ class All(Joined):
     def given(self):
         """The tuple of its arguments."""
         return self.sayings
+
+
+class All(Several):
+    """Each one of some sayings holds."""
+
+    WORD = "all"
 
     def made(self, given):
         """An All of other sayings."""
         return All(*given)
 
-    def held(self, numbers, top, bottom):
-        """Whether it holds, for each of these numbers."""
-        rows = [saying.held(numbers, top, bottom) for saying in self.sayings]
-        return [all([row[at] for row in rows]) for at in range(len(numbers))]
+    def joins(self, truths):
+        """Whether it holds by what its sayings do."""
+        return all(truths)
 
 
-class Any(Joined):
+class Any(Several):
     """One of some sayings holds, or more of them."""
 
     WORD = "any"
-
-    def __init__(self, *sayings):
-        _check_sayings(sayings)
-        self.sayings = sayings
-        Joined.__init__(self, sayings)
-
-    def given(self):
-        """The tuple of its arguments."""
-        return self.sayings
 
     def made(self, given):
         """An Any of other sayings."""
         return Any(*given)
 
-    def held(self, numbers, top, bottom):
-        """Whether it holds, for each of these numbers."""
-        rows = [saying.held(numbers, top, bottom) for saying in self.sayings]
-        return [any([row[at] for row in rows]) for at in range(len(numbers))]
+    def joins(self, truths):
+        """Whether it holds by what its sayings do."""
+        return any(truths)
 
 
 class Not(Joined):
@@ -315,9 +321,9 @@ class Not(Joined):
         """A Not of another saying."""
         return Not(*given)
 
-    def held(self, numbers, top, bottom):
-        """Whether it holds, for each of these numbers."""
-        return [not truth for truth in self.saying.held(numbers, top, bottom)]
+    def joins(self, truths):
+        """Whether it holds by what its saying does."""
+        return not truths[0]
 
     def __invert__(self):
         return self.saying
@@ -348,9 +354,7 @@ def _check_sayings(sayings):
 
 def _comparisons_in(saying):
     """The list of the comparisons in a saying, from the left."""
-    if not isinstance(saying, Joined):
-        return [saying]
-    return [part for inner in saying.given() for part in _comparisons_in(inner)]
+    return list(saying._comparisons) if isinstance(saying, Joined) else [saying]
 
 
 def _marks_alike(one, other):

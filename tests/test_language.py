@@ -108,7 +108,7 @@ class LanguageTest(unittest.TestCase):
         for name, tree in self.each_tree():
             for word in ("any", "all"):
                 for one in calls_of(tree, word):
-                    self.assertIsInstance(one.args[0], ast.ListComp, name)
+                    self.assertIsInstance(one.args[0], (ast.ListComp, ast.Name), name)
 
     def test_no_name_hides_a_class_or_an_import(self):
         for name, tree in self.each_tree():

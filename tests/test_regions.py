@@ -444,6 +444,17 @@ class AskingTest(unittest.TestCase):
             found = [x for x in row_to(9)[1:-1] if models.m_leaf(*truths, True).fits(x)]
             expected = ratio_of(min(found, key=lambda x: (x.denominator, x))) if found else None
             check_same(self, Region.leaf(*truths, True).simplest(), expected)
+        ways = ("", "l", "r", "lr", "rl", "lll", "rrr", "rrl")
+        for truths, way in itertools.product(itertools.product((False, True), repeat=4), ways):
+            region, model = Region.leaf(*truths, False), models.m_leaf(*truths, False)
+            nothing, no_model = Region.none(), models.m_only()
+            for turn in way:
+                pair, told = (region, nothing), (model, no_model)
+                region = Region.joined(False, *(pair if turn == "l" else pair[::-1]))
+                model = models.m_joined(False, *(told if turn == "l" else told[::-1]))
+            found = [x for x in row_to(20)[1:-1] if model.fits(x)]
+            expected = ratio_of(min(found, key=lambda x: (x.denominator, x))) if found else None
+            check_same(self, region.simplest(), expected)
         check_same(self, Region.leaf(False, False, False, True, False).simplest(), Ratio(2, 5))
         check_same(self, Region.leaf(False, True, True, False, False).simplest(), Ratio(1, 3))
         check_same(self, Region.only(Ratio(5, 7), Ratio(3, 7), Ratio(4, 7)).simplest(), Ratio(3, 7))

@@ -173,6 +173,8 @@ class MakingTest(unittest.TestCase):
         check_same(self, [deep(many).deep for many in range(1, 7)], [1, 2, 3, 4, 5, 6])
         check_same(self, [All().deep, Any().deep, Not(All()).deep, All(All()).deep, All(PLAIN, deep(3)).deep,
                           inner(3).deep], [1, 1, 2, 2, 4, 2])
+        for saying in comparisons():
+            check_same(self, [saying.deep, Not(saying).deep, list(saying.parts())], [1, 2, [saying]])
         check_raises(self, refused, Not, deep(6))
         check_raises(self, refused, All, PLAIN, deep(6))
         check_raises(self, refused, Any, deep(6), All())
@@ -340,6 +342,17 @@ class ChangedTest(unittest.TestCase):
         wide = Even(Height(Tone(11, 10), Note(0)), ZERO)
         check_raises(self, BadTerm("tone"), wide.mirrored)
         check_raises(self, BadTerm("tone"), Not(All(PLAIN, wide)).mirrored)
+
+    def test_towers_without_comparisons_are_quick(self):
+        tower, other = All(), Any()
+        for made in (Any, All, Any, All, Any):
+            tower, other = made(*[tower] * 12), made(*[other] * 12)
+        check_same(self, [tower.deep, tower.marks, other.span, list(tower.parts())], [6, (0,), 0, []])
+        check_quick(self, lambda: [tower(3, fifth) for fifth in FAR_FIFTHS])
+        check_same(self, [tower(5, Ratio(1, 2)), other(5, Ratio(1, 2)), tower == other], [True, False, False])
+        moved = check_quick(self, lambda: [tower.moved(3), tower.mirrored(), other.moved(-40)])
+        check_same(self, [moved[0] == tower, moved[1] == tower, moved[2] == other], [True] * 3)
+        check_same(self, tower.truths(Ring(FAR)), ((True,), (True,)))
 
     def test_nothing_changes_a_saying(self):
         saying = Not(At(Note(0), Moving(1)))

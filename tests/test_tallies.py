@@ -281,7 +281,7 @@ class ShareTest(unittest.TestCase):
                    [Tone(0, 1), Tone(1), Tone(0)])
 
     def test_refuses(self):
-        for saying, piece in itertools.product(any_values(), any_values()):
+        for saying, piece in itertools.product(any_values() + [TWO], any_values()):
             if not isinstance(saying, Saying):
                 check_raises(self, BadSaying("saying"), share, saying, piece)
             elif not isinstance(piece, Piece):
