@@ -52,14 +52,12 @@ class Ring:
 
     def arcs(self):
         """Yield the arcs, going up from 0."""
-        for number in self.order:
-            yield self.arc(number)
+        for arc in arcs_of(self.order, self.piece):
+            yield arc
 
     def arc(self, number):
         """The arc that begins at a number."""
-        end = self.after(number)
-        width = rise(end - number, self.piece)
-        return Arc(number, end, _weight(width, self.piece.left), _weight(width, self.piece.right), width)
+        return _arc_between(number, self.after(number), self.piece)
 
     def on(self, piece):
         """The Ring of these numbers on a piece that lies in this one or is it."""
@@ -110,6 +108,11 @@ def _fields_of(arc):
     return arc.low, arc.high, arc.left, arc.right, arc.width
 
 
+def arcs_of(order, piece):
+    """The list of the arcs from each number of an order up to the next one, on a piece."""
+    return [_arc_between(low, high, piece) for low, high in zip(order, order[1:] + order[:1])]
+
+
 def first_meeting(numbers, piece):
     """Where ascending numbers first meet in a piece, and the least pair that meets there.
 
@@ -148,6 +151,12 @@ def _order_of(numbers, piece):
     middle = piece.middle
     by_key = {number * middle.top % middle.bottom: number for number in numbers}
     return tuple([by_key[key] for key in ascending(list(by_key))])
+
+
+def _arc_between(low, high, piece):
+    """The arc from a number up to the next one, on a piece."""
+    width = rise(high - low, piece)
+    return Arc(low, high, _weight(width, piece.left), _weight(width, piece.right), width)
 
 
 def _weight(width, end):

@@ -1,6 +1,7 @@
 """The sayings: what may hold for note n and the notes near it."""
 
 from anyfifth.errors import BadFifth, BadNumber, BadSaying, TooMany
+from anyfifth.marks import marks_of_at, marks_of_below, marks_of_between, marks_of_heights
 from anyfifth.plain import ascending, is_int
 from anyfifth.ratios import Ratio
 from anyfifth.rings import Ring
@@ -54,13 +55,7 @@ class Saying:
         """Its truths at the marks and its truths on the arcs of the Ring of just its marks."""
         if not isinstance(ring, Ring) or ascending(ring.order) != self._marks:
             raise BadSaying("ring")
-        # At the spot (2, 3) each arc has a key strictly inside. The middle of the
-        # piece is the neighbour below this fraction, so as many notes as it has
-        # keys lead up by just one key.
-        fifth, up = ring.piece.ratio(2, 3), ring.piece.reach
-        at_marks = self.held(ring.order, fifth.top, fifth.bottom)
-        on_arcs = self.held([mark + up for mark in ring.order], fifth.top, fifth.bottom)
-        return tuple(at_marks), tuple(on_arcs)
+        return truths_by(self, ring.piece, ring.order)
 
     def moved(self, number):
         """The saying with each term moved."""
@@ -105,9 +100,15 @@ class Saying:
 class Comparing(Saying):
     """The base of the comparisons of positions."""
 
+    def __init__(self, marks):
+        Saying.__init__(self, 1, marks)
+
 
 class Levelled(Saying):
     """The base of the comparisons of pitches."""
+
+    def __init__(self, marks):
+        Saying.__init__(self, 1, marks)
 
 
 class Joined(Saying):
@@ -117,7 +118,7 @@ class Joined(Saying):
         self._comparisons = [part for saying in sayings for part in _comparisons_in(saying)]
         if len(self._comparisons) > Saying.MOST:
             raise TooMany("comparisons", Saying.MOST)
-        deep = 1 + ascending([0, *[saying.deep for saying in sayings]])[-1]
+        deep = 1 + ascending([0] + [saying.deep for saying in sayings])[-1]
         Saying.__init__(self, deep, [mark for saying in sayings for mark in saying.marks])
         # Without comparisons it always holds or never. It may be made of so many
         # sayings that they are asked only once.
@@ -130,7 +131,7 @@ class Joined(Saying):
         if self._fixed is not None:
             return [self._fixed] * len(numbers)
         rows = [saying.held(numbers, top, bottom) for saying in self.given()]
-        return [self.joins([row[at] for row in rows]) for at in range(len(numbers))]
+        return [self.joins(truths) for truths in zip(*rows)]
 
 
 class Paired:
@@ -153,11 +154,7 @@ class At(Comparing, Paired):
     def __init__(self, one, other):
         _check_terms([("one", one), ("other", other)])
         Paired.__init__(self, one, other)
-        b, c = one.number, other.number
-        if one.is_moving != other.is_moving:
-            Saying.__init__(self, 1, [b - c if other.is_moving else c - b])
-        else:
-            Saying.__init__(self, 1, _marks_alike(one, other))
+        Comparing.__init__(self, marks_of_at(one, other))
 
     def made(self, given):
         """An At of two other terms."""
@@ -177,12 +174,7 @@ class Below(Comparing, Paired):
     def __init__(self, one, other):
         _check_terms([("one", one), ("other", other)])
         Paired.__init__(self, one, other)
-        if one.is_moving != other.is_moving:
-            moving, fixed = (one, other) if one.is_moving else (other, one)
-            b, c = moving.number, fixed.number
-            Saying.__init__(self, 1, [-b, c - b, c])
-        else:
-            Saying.__init__(self, 1, _marks_alike(one, other))
+        Comparing.__init__(self, marks_of_below(one, other))
 
     def made(self, given):
         """A Below of two other terms."""
@@ -204,10 +196,7 @@ class Between(Comparing):
         self.first = first
         self.inside = inside
         self.last = last
-        moving = [term.number for term in self.given() if term.is_moving]
-        fixed = [term.number for term in self.given() if not term.is_moving]
-        marks = [c - b for c in fixed for b in moving]
-        Saying.__init__(self, 1, marks if marks != [] else moving + fixed)
+        Comparing.__init__(self, marks_of_between([first, inside, last]))
 
     def given(self):
         """The tuple of its arguments."""
@@ -231,7 +220,7 @@ class Higher(Levelled, Paired):
     def __init__(self, one, other):
         _check_heights([("one", one), ("other", other)])
         Paired.__init__(self, one, other)
-        Saying.__init__(self, 1, _marks_of_heights(one, other))
+        Levelled.__init__(self, marks_of_heights(one, other))
 
     def made(self, given):
         """A Higher of two other heights."""
@@ -250,7 +239,7 @@ class Even(Levelled, Paired):
     def __init__(self, one, other):
         _check_heights([("one", one), ("other", other)])
         Paired.__init__(self, one, other)
-        Saying.__init__(self, 1, _marks_of_heights(one, other))
+        Levelled.__init__(self, marks_of_heights(one, other))
 
     def made(self, given):
         """An Even of two other heights."""
@@ -329,6 +318,16 @@ class Not(Joined):
         return self.saying
 
 
+def truths_by(saying, piece, order):
+    """The truths of a saying at its marks, which stand in this order on a piece, and on the arcs between them."""
+    # At the spot (2, 3) each arc has a key strictly inside. The middle of the
+    # piece is the neighbour below this fraction, so as many notes as it has
+    # keys lead up by just one key.
+    fifth, up = piece.ratio(2, 3), piece.reach
+    truths = saying.held([*order] + [mark + up for mark in order], fifth.top, fifth.bottom)
+    return tuple(truths[:len(order)]), tuple(truths[len(order):])
+
+
 def _check_terms(rows):
     """Refuse the first value that is no Term, by its name."""
     for name, value in rows:
@@ -355,26 +354,6 @@ def _check_sayings(sayings):
 def _comparisons_in(saying):
     """The list of the comparisons in a saying, from the left."""
     return list(saying._comparisons) if isinstance(saying, Joined) else [saying]
-
-
-def _marks_alike(one, other):
-    """The marks of At and Below for two terms that are both fixed or both moving."""
-    if one.is_moving:
-        return [-one.number, -other.number]
-    return [one.number, other.number]
-
-
-def _marks_of_heights(one, other):
-    """The marks of Higher and Even."""
-    b, c = one.term.number, other.term.number
-    k = one.tone.fifths - other.tone.fifths
-    if one.term.is_moving and other.term.is_moving:
-        return [-b, -c, k + b - c]
-    if one.term.is_moving:
-        return [-b, c, c - k, c - k - b]
-    if other.term.is_moving:
-        return [-c, b, b + k, b + k - c]
-    return [b, c, k + b - c]
 
 
 def _line_of(term):

@@ -3,8 +3,8 @@
 from anyfifth.errors import BadFifth, BadPiece, BadSaying, TooMany
 from anyfifth.pieces import Piece, piece_at
 from anyfifth.ratios import Ratio
-from anyfifth.rings import Ring, first_meeting
-from anyfifth.sayings import Saying
+from anyfifth.rings import Ring, arcs_of, first_meeting
+from anyfifth.sayings import Saying, truths_by
 from anyfifth.tones import Tone
 from anyfifth.trees import branches_of, is_branch, leaves_of, middle_of, node_at, piece_of
 
@@ -175,9 +175,15 @@ def _settled_in(saying, piece):
 
 def _part_on(saying, piece):
     """The Part of a saying on a piece that settles it."""
-    ring = Ring(piece, *saying.marks)
-    at_marks, on_arcs = saying.truths(ring)
-    arcs = [arc for arc, truth in zip(ring.arcs(), on_arcs) if truth]
+    marks = saying.marks
+    order = Ring(piece, *marks).order
+    at_marks, on_arcs = truths_by(saying, piece, order)
+    return part_by(piece, order, at_marks, on_arcs)
+
+
+def part_by(piece, order, at_marks, on_arcs):
+    """The Part of what has these truths at the marks, which stand in this order on a piece, and on the arcs."""
+    arcs = [arc for arc, truth in zip(arcs_of(order, piece), on_arcs) if truth]
     x, y = sum([arc.left for arc in arcs]), sum([arc.right for arc in arcs])
     z = len([truth for truth in at_marks if truth]) - len(arcs)
     widths = Tone(sum([arc.width.octaves for arc in arcs]), sum([arc.width.fifths for arc in arcs]))

@@ -107,8 +107,9 @@ def rise(number, piece):
     """
     if number == 0:
         return Tone(1)
-    middle = piece.middle
-    return Tone(-(number * middle.top // middle.bottom), number)
+    # The whole octaves are the same throughout the piece, so its middle tells them.
+    top = piece.left.top + piece.right.top
+    return Tone(-(number * top // piece.reach), number)
 
 
 def _into_octave(ratio):

@@ -190,6 +190,33 @@ class LanguageTest(unittest.TestCase):
             self.assertNotIn(name, attributes - {"share"})
         self.assertEqual(kinds["share"], {"plain"})
 
+    def test_the_init_of_a_base_that_the_class_names(self):
+        for name, tree in self.each_tree():
+            for one in nodes(tree, ast.ClassDef):
+                bases = {ast.unparse(base) for base in one.bases}
+                for call in nodes(one, ast.Call):
+                    if isinstance(call.func, ast.Attribute) and call.func.attr == "__init__":
+                        self.assertIn(ast.unparse(call.func.value), bases, (name, call.lineno))
+                        self.assertEqual(ast.unparse(call.args[0]), "self", (name, call.lineno))
+
+    def test_no_property_stands_behind_a_star(self):
+        properties = set()
+        for name, tree in self.each_tree():
+            properties |= {one.name for one in nodes(tree, ast.FunctionDef) if kind_of(one) == "property"}
+        self.assertIn("marks", properties)
+        for name, tree in self.each_tree():
+            for call in nodes(tree, ast.Call):
+                for one in call.args:
+                    if isinstance(one, ast.Starred):
+                        self.check_star(one.value, properties, (name, call.lineno))
+
+    def check_star(self, value, properties, place):
+        """Behind the star of a call stands a name, or an attribute off a name that is no property."""
+        if isinstance(value, ast.Attribute):
+            self.assertNotIn(value.attr, properties, place)
+            value = value.value
+        self.assertIsInstance(value, ast.Name, place)
+
     def test_what_is_gone_over_has_its_iterator(self):
         for name, tree in self.each_tree():
             for one in nodes(tree, ast.ClassDef):
