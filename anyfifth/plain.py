@@ -1,4 +1,4 @@
-"""What an integer is, and how one is written and read as text."""
+"""What an integer is, how one is written and read as text, and what a name is."""
 
 
 def is_int(value):
@@ -39,6 +39,13 @@ def integer_in(word, most):
 def is_from_to(value, low, high):
     """Whether any value is an integer from low to high."""
     return is_int(value) and low <= value <= high
+
+
+def is_name(value):
+    """Whether any value is a string of 1 to 8 letters from a to z."""
+    if not isinstance(value, str) or not 1 <= len(value) <= 8:
+        return False
+    return value.isascii() and value.isalpha() and value.islower()
 
 
 def ascending(numbers):

@@ -3,7 +3,7 @@
 from math import gcd
 
 from anyfifth.errors import BadRatio, BadText, NoDivisor
-from anyfifth.plain import integer_in, is_int, written
+from anyfifth.plain import integer_in, is_int, is_short, written
 
 
 class Ratio:
@@ -157,6 +157,11 @@ def parts_of(number):
     if isinstance(number, Ratio):
         return number.top, number.bottom
     return number, 1
+
+
+def is_short_fifth(value):
+    """Whether any value is a Ratio that is a fifth, with a bottom of at most 40 figures."""
+    return Ratio.is_fifth(value) and is_short(value.bottom)
 
 
 def ratio_in(text):

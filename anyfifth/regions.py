@@ -4,11 +4,12 @@ from anyfifth.errors import BadFifth, BadNumber, BadPiece, BadRegion, BadText, B
 from anyfifth.pieces import Piece, path
 from anyfifth.plain import is_from_to
 from anyfifth.ratios import Ratio
+from anyfifth.rows import Row
 from anyfifth.trees import (
     WHOLE, branches_of, half_ends, is_branch, leaves_of, middle_of, node_at, nodes_of, piece_of, sizes_of)
 from anyfifth.truths import (
-    AND, EVERY, LESS, NONE, OR, UNLIKE, above_tree, below_tree, beside_tree, branch_of, combined, mirror_of, tree_of,
-    truth_at, words_of)
+    AND, EVERY, LESS, NONE, OR, UNLIKE, above_tree, below_tree, beside_tree, branch_of, combined, mirror_of, tree_in,
+    tree_of, truth_at, words_of)
 
 
 class Region:
@@ -106,8 +107,8 @@ class Region:
         """The region with just this text."""
         if not isinstance(text, str):
             raise BadText(0, 0)
-        tree = tree_of(_nodes_in(text))
-        if " ".join(words_of(tree)) != text:
+        tree = tree_in(Row(text, 0))
+        if tree is None:
             raise BadText(0, 0)
         return cls(tree)
 
@@ -275,26 +276,6 @@ def _tree_of_only(fifths):
         waiting.append(on_right)
         waiting.append(on_left)
     return tree_of(nodes)
-
-
-def _nodes_in(text):
-    """The nodes that a text tells, a bool for each branch. Refuses a text that tells no tree."""
-    nodes, missing = [], 1
-    words = text.split(" ")
-    for at, word in enumerate(words):
-        if missing == 0:
-            raise BadText(0, at)
-        if word in ("0", "1"):
-            nodes.append(word == "1")
-            missing = missing + 1
-        elif len(word) == 5 and word.strip("01") == "":
-            nodes.append(tuple([sign == "1" for sign in word]))
-            missing = missing - 1
-        else:
-            raise BadText(0, at)
-    if missing > 0:
-        raise BadText(0, len(words))
-    return nodes
 
 
 def _truths_within(leaf, around, piece):

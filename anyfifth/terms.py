@@ -60,7 +60,7 @@ class Height:
     """A tone above the position of a term's note. It never changes."""
 
     def __init__(self, tone, term):
-        if not isinstance(tone, Tone) or not _is_near(tone):
+        if not isinstance(tone, Tone) or not is_near(tone):
             raise BadTerm("tone")
         if not isinstance(term, Term):
             raise BadTerm("term")
@@ -86,7 +86,7 @@ class Height:
         return self.tone == other.tone and self.term == other.term
 
 
-def _is_near(tone):
+def is_near(tone):
     """Whether a tone has the octaves and fifths of a height."""
     return is_from_to(tone.octaves, -20, 20) and is_from_to(tone.fifths, -20, 20)
 

@@ -21,13 +21,10 @@ class Tone:
     @classmethod
     def read(cls, text):
         """The Tone with just this text."""
-        if not isinstance(text, str):
+        found = tone_in(text)
+        if found is None:
             raise BadText(0, 0)
-        first, _, last = text.partition(",")
-        octaves, fifths = integer_in(first, 60), integer_in(last, 60)
-        if octaves is None or fifths is None:
-            raise BadText(0, 0)
-        return cls(octaves, fifths)
+        return cls(found.octaves, found.fifths)
 
     def __call__(self, fifth):
         """The pitch at a fifth."""
@@ -89,6 +86,17 @@ class Tone:
 
     def __str__(self):
         return f"{written(self.octaves)},{written(self.fifths)}"
+
+
+def tone_in(text):
+    """The Tone with just this text, None for any other value."""
+    if not isinstance(text, str):
+        return None
+    first, _, last = text.partition(",")
+    octaves, fifths = integer_in(first, 60), integer_in(last, 60)
+    if octaves is None or fifths is None:
+        return None
+    return Tone(octaves, fifths)
 
 
 def position(number, piece):

@@ -4,7 +4,7 @@ A leaf has five truths: for the kinds "middle", "left", "right", "other" and "no
 that are made here are least trees, if those that are passed are.
 """
 
-from anyfifth.trees import is_branch
+from anyfifth.trees import is_branch, sizes_of
 
 NONE = (False, False, False, False, False)
 EVERY = (True, True, True, True, True)
@@ -99,6 +99,19 @@ def tree_of(nodes):
     return made[0]
 
 
+def tree_in(row):
+    """The tree whose words follow to the end of a row, None if it is not the least one."""
+    nodes, missing = [], 1
+    while missing > 0:
+        node = row.taken(_node_in)
+        nodes.append(node)
+        missing = missing + 1 if isinstance(node, bool) else missing - 1
+    row.close()
+    tree = tree_of(nodes)
+    _, leaves = sizes_of(tree)
+    return tree if 2 * leaves - 1 == len(nodes) else None
+
+
 def words_of(tree):
     """The words of the text of a tree."""
     words = []
@@ -112,6 +125,15 @@ def words_of(tree):
         else:
             words.append("".join(["1" if truth else "0" for truth in node]))
     return words
+
+
+def _node_in(word):
+    """The truth of a branch, or the truths of a leaf, whose word this is; None if there is none."""
+    if word in ("0", "1"):
+        return word == "1"
+    if len(word) == 5 and word.strip("01") == "":
+        return tuple([sign == "1" for sign in word])
+    return None
 
 
 def _turns_to(fifth):

@@ -3,6 +3,7 @@
 import itertools
 
 from anyfifth.sayings import All, Any, At, Below, Between, Even, Higher, Joined, Not
+from anyfifth.sentences import Each, Some
 from anyfifth.terms import Height, Moving, Note
 from anyfifth.tones import Tone
 
@@ -101,3 +102,43 @@ def widest():
             (6, -2, 16), (-3, 7, -12), (-1, -11, 5), (7, 9, -15), (-9, 8, -3)]
     rows = [Higher(Height(Tone(-(k // 2), k), Moving(b)), Height(Tone(0), Note(c))) for b, c, k in told]
     return Any(*[All(rows[at], Any(rows[at + 1], ~rows[at + 2])) for at in range(0, 12, 3)])
+
+
+def sentences(starts):
+    """Sentences of sayings of all kinds, with starts by turns."""
+    found = []
+    for at, saying in enumerate(some_sayings()):
+        found.append(Some(saying, starts[at % len(starts)]))
+        found.append(Each(saying, starts[(at // 2 + 1) % len(starts)]))
+    deep = Any(All(Any(All(Any(Between(Note(0), Moving(0), Note(1)), At(Moving(1), Note(3)))))))
+    found.extend([Some(deep, starts[-1]), Each(deep, starts[0])])
+    return found
+
+
+def is_true_at(sentence, fifth):
+    """Whether a sentence is true at a fraction, by all its keys from the start on."""
+    start = sentence.start or 0
+    truths = (holds(sentence.saying, n, fifth.top, fifth.bottom) for n in range(start, start + fifth.bottom))
+    return any(truths) if isinstance(sentence, Some) else all(truths)
+
+
+def truth_beside(sentence, piece):
+    """Whether a sentence is true at the fifths in a piece that are no fraction.
+
+    By the keys of a fraction that is far in the piece: of those close to the marks, and of the marks from the start
+    on. Notes far from all marks fill each arc.
+    """
+    wanted = isinstance(sentence, Some)
+    fifth = piece.ratio(10 ** 12 + 39, 618033988791)
+    p, q = fifth.top, fifth.bottom
+    marks = sorted(marks_of(sentence.saying) | {0}, key=lambda mark: mark * p % q)
+    keys = [mark * p % q for mark in marks]
+    inverse = pow(p, -1, q)
+    for low, high in zip(keys, keys[1:] + [q]):
+        if holds(sentence.saying, (low + high) // 2 * inverse % q, p, q) == wanted:
+            return wanted
+    for mark in marks:
+        if sentence.start is None or mark >= sentence.start:
+            if holds(sentence.saying, mark, p, q) == wanted:
+                return wanted
+    return not wanted

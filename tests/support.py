@@ -5,12 +5,16 @@ import time
 from fractions import Fraction
 
 from anyfifth import errors
+from anyfifth.books import Book
+from anyfifth.desk import Desk
+from anyfifth.melodies import Bring, Melody, Shift
 from anyfifth.pieces import Piece
 from anyfifth.ratios import Ratio
 from anyfifth.regions import Region
 from anyfifth.rings import Arc, Ring
 from anyfifth.sayings import All, At, Even
 from anyfifth.scales import Scale
+from anyfifth.sentences import Each, Fails, Holds, Some
 from anyfifth.tallies import Part, tally
 from anyfifth.terms import Height, Moving, Note
 from anyfifth.tones import Tone
@@ -22,6 +26,8 @@ def any_values():
         Region.every(), Tone(0), Tone(1, -1), Ring(Piece.whole()), Arc(0, 0, 1, 1, Tone(1)), Scale(), Scale(0, 1),
         Note(0), Moving(1), Height(Tone(0), Note(0)), All(), At(Note(0), Moving(0)), tally(All()),
         Even(Height(Tone(0), Note(0)), Height(Tone(0), Note(0))), Part(Piece.whole(), 1, 1, 0, Tone(1)),
+        Some(All()), Each(At(Note(0), Moving(0)), 1), Holds(), Fails(Ratio(1, 2), 0, None), Shift(Tone(0, 1)),
+        Bring(Tone(0)), Melody(Tone(0), Shift(Tone(0, 1)), Bring(Tone(0))), Book(), Desk(),
     ]
 
 
@@ -100,6 +106,20 @@ def all_pieces(most):
     pairs = itertools.combinations(row, 2)
     return [Piece(ratio_of(one), ratio_of(other)) for one, other in pairs
             if one.denominator * other.numerator - one.numerator * other.denominator == 1]
+
+
+def some_wide_regions():
+    """Regions of all kinds: stretches, single fractions, neighbours, with and without fractions, none and all."""
+    half, third = Ratio(1, 2), Ratio(1, 3)
+    bare = Region.leaf(False, False, False, False, True)
+    found = [Region.every(), Region.none(), Region.rational(), bare, Region.leaf(True, False, False, True, False)]
+    for low, high in ((0, half), (half, 1), (third, Ratio(2, 5)), (Ratio(4, 7), Ratio(3, 5)), (Ratio(1, 48), Ratio(1, 2))):
+        stretch = Region.stretch(low, high)
+        found.extend([stretch, stretch & bare, stretch - bare, ~stretch, stretch ^ Region.beside(half, "left")])
+    for fifth in (half, third, Ratio(5, 12), Ratio(30, 49), Ratio(7, 55)):
+        found.extend([Region.only(fifth), ~Region.only(fifth, Ratio(2, 5)), Region.beside(fifth, "right")])
+    found.append(Region.joined(True, found[2], Region.joined(False, bare, found[5])))
+    return found
 
 
 def key_of(note, fifth):

@@ -22,8 +22,10 @@ BUILTINS = {
 }
 BUILTIN_METHODS = {
     "append", "extend", "pop", "index", "items", "values", "join", "split", "partition", "strip", "startswith",
-    "zfill", "isascii", "isdigit",
+    "zfill", "isascii", "isdigit", "isalpha", "islower", "replace",
 }
+# Attributes that are called: a tone stands in a height and in a move, another one at the start of a melody.
+CALLED = {"tone", "start"}
 
 
 def nodes(tree, *kinds):
@@ -74,14 +76,14 @@ class LanguageTest(unittest.TestCase):
                 if one.name.startswith("__"):
                     self.assertIn(one.name[2:-2], METHODS, (name, one.name))
                 for sign in one.decorator_list:
-                    self.assertTrue(isinstance(sign, ast.Name) and sign.id in DECORATORS, (name, one.name))
+                    self.assertIn(ast.unparse(sign), DECORATORS | {one.name + ".setter"}, (name, one.name))
             for one in nodes(tree, ast.ClassDef):
                 self.assertEqual(one.decorator_list, [])
 
     def test_no_statement_and_no_value_outside_the_language(self):
         # += is let in some places only; the package does without it.
         barred = (ast.AugAssign, ast.Global, ast.AsyncFunctionDef, ast.Await, ast.Div, ast.MatMult, ast.Set,
-                  ast.SetComp, ast.AnnAssign, ast.Lambda, ast.GeneratorExp, ast.Try, ast.NamedExpr, ast.With)
+                  ast.SetComp, ast.AnnAssign, ast.Lambda, ast.GeneratorExp, ast.Try, ast.NamedExpr)
         for name, tree in self.each_tree():
             self.assertEqual(nodes(tree, *barred), [], name)
             for one in nodes(tree, ast.Constant):
@@ -102,7 +104,8 @@ class LanguageTest(unittest.TestCase):
             for one in calls_of(tree, "sorted"):
                 (row,), told = one.args, one.keywords
                 self.assertEqual(told, [])
-                self.assertTrue(isinstance(row, ast.ListComp) and ast.unparse(row.elt).startswith("int("), name)
+                self.assertIsInstance(row, ast.ListComp, name)
+                self.assertIn(ast.unparse(row.elt)[:4], ("int(", "str("), name)
 
     def test_whole_rows_are_summed_and_asked(self):
         for name, tree in self.each_tree():
@@ -129,8 +132,7 @@ class LanguageTest(unittest.TestCase):
         for name, tree in self.each_tree():
             for one in nodes(tree, ast.Call):
                 if isinstance(one.func, ast.Attribute):
-                    # A tone is called, and stands in a height.
-                    self.assertIn(one.func.attr, own | BUILTIN_METHODS | {"__init__", "tone"}, name)
+                    self.assertIn(one.func.attr, own | BUILTIN_METHODS | {"__init__"} | CALLED, name)
 
     def test_attributes_that_are_read_are_assigned(self):
         given, read = set(), set()
@@ -140,7 +142,7 @@ class LanguageTest(unittest.TestCase):
             for one in nodes(tree, ast.ClassDef):
                 given |= {part.targets[0].id for part in one.body if isinstance(part, ast.Assign)}
             read |= {one.attr for one in nodes(tree, ast.Attribute) if isinstance(one.ctx, ast.Load)}
-        self.assertLessEqual(read, given | BUILTIN_METHODS)
+        self.assertLessEqual(read - given, BUILTIN_METHODS | {"setter"})
 
     def test_comparing_and_measuring_assigns_nothing(self):
         for name, tree in self.each_tree():
@@ -222,7 +224,26 @@ class LanguageTest(unittest.TestCase):
             for one in nodes(tree, ast.ClassDef):
                 methods = {part.name for part in one.body if isinstance(part, ast.FunctionDef)}
                 self.assertLessEqual({"__iter__"} if "__getitem__" in methods else set(), methods)
-                self.assertEqual(len(methods), len([part for part in one.body if isinstance(part, ast.FunctionDef)]))
+                told = [part.name for part in one.body if isinstance(part, ast.FunctionDef) and not is_setter(part)]
+                self.assertEqual(len(methods), len(told))
+
+    def test_blocks_are_those_of_own_classes(self):
+        blocks, classes = [], {}
+        for name, tree in self.each_tree():
+            blocks.extend(item for one in nodes(tree, ast.With) for item in one.items)
+            classes.update({one.name: one for one in nodes(tree, ast.ClassDef)})
+        for item in blocks:
+            methods = {part.name: part for part in classes[item.context_expr.func.id].body
+                       if isinstance(part, ast.FunctionDef)}
+            self.assertIn("__enter__", methods)
+            first, *rows = methods["__exit__"].body
+            self.assertEqual(ast.unparse(first), "book = self._book")
+            for row in rows:
+                self.assertRegex(ast.unparse(row), r"^book\.(\w+) = self\.\1$")
+
+    def test_tables_hold_functions_that_are_called_by_a_name(self):
+        for name, tree in self.each_tree():
+            self.assertEqual([one for one in nodes(tree, ast.Call) if isinstance(one.func, ast.Subscript)], [], name)
 
 
 def calls_of(tree, name):
@@ -230,10 +251,15 @@ def calls_of(tree, name):
     return [one for one in nodes(tree, ast.Call) if isinstance(one.func, ast.Name) and one.func.id == name]
 
 
+def is_setter(function):
+    """Whether a method sets a property."""
+    return any(isinstance(sign, ast.Attribute) for sign in function.decorator_list)
+
+
 def kind_of(function):
     """What a function or method is: by its decorator, a generator, or plain."""
     for sign in function.decorator_list:
-        return sign.id
+        return sign.id if isinstance(sign, ast.Name) else "property"
     return "generator" if nodes(function, ast.Yield, ast.YieldFrom) else "plain"
 
 
