@@ -37,15 +37,20 @@ def heads_in(row):
 
 def saying_of(heads):
     """The saying with these heads, made from the inside and from the left."""
-    waiting = []
+    saying, waiting = None, []
     for word, given, many in heads:
-        waiting.append((word, len(given) + many, list(given)))
-        while len(waiting[-1][2]) == waiting[-1][1]:
-            last, _, parts = waiting.pop()
+        if many > 0:
+            waiting.append((word, many, []))
+            continue
+        saying = _made(word, given)
+        while waiting:
+            last, size, parts = waiting[-1]
+            parts.append(saying)
+            if len(parts) < size:
+                break
+            waiting.pop()
             saying = _made(last, parts)
-            if len(waiting) == 0:
-                return saying
-            waiting[-1][2].append(saying)
+    return saying
 
 
 def told_in(row):

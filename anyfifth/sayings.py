@@ -118,8 +118,11 @@ class Joined(Saying):
         self._comparisons = [part for saying in sayings for part in _comparisons_in(saying)]
         if len(self._comparisons) > Saying.MOST:
             raise TooMany("comparisons", Saying.MOST)
-        deep = 1 + ascending([0] + [saying.deep for saying in sayings])[-1]
-        Saying.__init__(self, deep, [mark for saying in sayings for mark in saying.marks])
+        deep = 0
+        for saying in sayings:
+            if saying.deep > deep:
+                deep = saying.deep
+        Saying.__init__(self, 1 + deep, [mark for saying in sayings for mark in saying.marks])
         # Without comparisons it always holds or never. It may be made of so many
         # sayings that they are asked only once.
         self._fixed = None

@@ -6,7 +6,6 @@ from anyfifth.errors import BadFifth, BadMove, BadNumber, BadRatio, BadRound, Ba
 from anyfifth.firsts import first_n
 from anyfifth.melodies import Bring, Melody, Move, Shift
 from anyfifth.ratios import Ratio
-from anyfifth.regions import Region
 from anyfifth.sayings import Even, Higher, Not
 from anyfifth.sentences import Each, Some, judge
 from anyfifth.terms import Height, Moving

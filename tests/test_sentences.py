@@ -12,7 +12,7 @@ from anyfifth.terms import Moving, Note
 from tests import said
 from tests.said import comparisons, holds, is_true_at, marks_of, sentences, some_sayings, truth_beside
 from tests.support import (
-    any_values, check_examples, check_quick, check_raises, check_same, fifths_to, ratio_of, some_wide_regions)
+    any_values, check_examples, check_quick, check_raises, check_same, fifths_to, some_wide_regions)
 
 EXAMPLES = """
 >>> from anyfifth.sentences import Each, Fails, Holds, Some, judge, paper
