@@ -258,6 +258,35 @@ raises BadText(0, 1)
 """
 
 
+# One object of each class that never changes, and calls of what they can do.
+OBJECTS = """
+from anyfifth.errors import FifthError
+from anyfifth.sayings import Saying
+half, wide = Ratio(1, 2), Ratio(20, 49)
+saying = Between(Note(0), Moving(0), Note(1))
+height = Height(Tone(1, -1), Moving(1))
+melody = Melody(Tone(0), Shift(Tone(0, 1)), Bring(Tone(0)))
+region = Region.stretch(0, half) - Region.beside(half, "left")
+objects = [half, Piece(half, 1), region, Tone(1, 2), Ring(Piece(half, 1), 1, 2), Arc(0, 1, 2, 3, Tone(1)), Note(1), Moving(2),
+           height, At(Note(0), Moving(1)), Below(Note(0), Moving(1)), saying, Higher(height, height), Even(height, height),
+           All(saying, All()), Any(saying), Not(saying), tally(saying), Part(Piece.whole(), 1, 1, 0, Tone(1)), Some(saying, 2),
+           Each(saying), Holds(), Fails(half, 1, None), Shift(Tone(1)), Bring(Tone(1)), melody]
+calls = [str, len, bool, list, hash, abs, lambda one: -one, lambda one: ~one, lambda one: one == one, lambda one: one != half,
+         lambda one: one + half, lambda one: one - one, lambda one: one * 2, lambda one: one // half, lambda one: one % half,
+         lambda one: one & one, lambda one: one | one, lambda one: one <= one, lambda one: half in one, lambda one: one(wide),
+         lambda one: one(5, wide), lambda one: one.mirrored(), lambda one: one.moved(1), lambda one: list(one.parts()),
+         lambda one: list(one.backward()), lambda one: list(one.middles()), lambda one: one.region(), lambda one: judge(one),
+         lambda one: paper(one), lambda one: judge(one, region), lambda one: tally(one), lambda one: first_n(one, wide),
+         lambda one: list(one.played(3, wide)), lambda one: one.pitch(3, wide), lambda one: one.above(one), lambda one: one.alike(one),
+         lambda one: one + Bring(Tone(0)), lambda one: list(one.arcs()), lambda one: list(one.walk(1)), lambda one: one.halves,
+         lambda one: saying_text(one), lambda one: sentence_text(one), lambda one: Book(one), lambda one: Book().promise("a", one),
+         lambda one: list(one.listed(9)), lambda one: one.simplest(), lambda one: one.truths(Ring(Piece.whole(), 1)),
+         lambda one: list(settled(one)), lambda one: count(one, wide), lambda one: one.part_at(wide), lambda one: one.note(3),
+         lambda one: one.position(3, wide), lambda one: one.on(Piece(half, Ratio(2, 3))), lambda one: one.over(half),
+         lambda one: region_of(one, paper(one)), lambda one: shows_first(one, wide, 0, 1), lambda one: one.count(2, 3)]
+"""
+
+
 class DocumentTest(unittest.TestCase):
     def test_names_and_arguments(self):
         for row in INTERFACE.strip().split("\n"):
@@ -291,6 +320,25 @@ class DocumentTest(unittest.TestCase):
                 expected = bases.get(name) or ("BadInput" if name.startswith("Bad") else "Refused")
                 expected = "NoAnswer" if name == "NoChange" else expected
                 self.assertEqual([one.__name__ for one in value.__bases__], [expected])
+
+    def test_objects_never_change(self):
+        names = {}
+        for row in EXAMPLES.split("\n"):
+            if row.startswith(">>> from "):
+                exec(row[4:], names)
+        exec(OBJECTS, names)
+        for one in names["objects"]:
+            before = dict(vars(one))
+            for call in names["calls"]:
+                try:
+                    call(one)
+                except (names["FifthError"], TypeError, AttributeError):
+                    # Not each object has each method.
+                    pass
+            self.assertEqual(list(vars(one)), list(before), one)
+            for name, value in before.items():
+                self.assertIs(getattr(one, name), value, (one, name))
+            self.assertEqual(repr(vars(one)), repr(before))
 
     def test_all_examples(self):
         check_examples(self, EXAMPLES, {})

@@ -117,6 +117,11 @@ class FirstsTest(unittest.TestCase):
                           nth(k=2, start=4, saying=INSIDE, fifth=fifth),
                           first_in(start=1, high=1, low=0, fifth=fifth), nth(INSIDE, fifth, 0)], [3, -4, 8, 10, 5, 3])
 
+    def test_starts_that_are_not_told(self):
+        one, zero, fifth = At(Moving(0), Note(1)), At(Moving(0), Note(0)), Ratio(5, 12)
+        check_same(self, [first_n(zero, fifth), last_n(one, fifth), nth(zero, fifth, 0), nth(zero, fifth, 2),
+                          first_in(fifth, 0, 0)], [0, -11, 0, 24, 0])
+
     def test_no_number_at_all(self):
         for saying in (Any(), Not(All()), INSIDE & ~INSIDE):
             for fifth, start in itertools.product(FAR + NEAR[::5], (0, LONG, -MOST)):

@@ -121,6 +121,12 @@ class RingTest(unittest.TestCase):
                           shows_ring(WHOLE, [-1], (0, -1)), shows_ring(WHOLE, [1] * 2000, (0, 1))],
                    [True, True, True, False, False, False, False, False, True, True])
 
+    def test_numbers_of_48_and_49(self):
+        for piece in (Piece(0, Ratio(1, 60)), Piece(Ratio(59, 60), 1)):
+            for number, is_let in ((48, True), (-48, True), (49, False), (-49, False)):
+                found = [shows_ring(piece, [number], (0, number)), shows_ring(piece, [0, number], (0, number))]
+                check_same(self, found, [is_let, is_let])
+
     def test_arguments_stay(self):
         numbers = [2, 1, 2]
         shows_ring(HIGH, numbers, (0, 2, 1))
@@ -415,7 +421,8 @@ class FirstTest(unittest.TestCase):
             check_same(self, shows_first(All(), fifth, 1, value), value == 1 and type(value) is int)
 
     def test_refuses_in_order(self):
-        for saying, fifth, start in itertools.product(any_values()[::2] + [TWO], any_values()[::2], any_values()):
+        fifths = any_values()[::3] + [Ratio(5, 12)]
+        for saying, fifth, start in itertools.product(any_values()[::3] + [TWO], fifths, any_values()):
             if not isinstance(saying, Saying):
                 expected = BadSaying("saying")
             elif not Ratio.is_fifth(fifth):
