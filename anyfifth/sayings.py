@@ -253,8 +253,10 @@ class Even(Levelled, Paired):
         return [lead == 0 for lead in _leads(self.one, self.other, numbers, top, bottom)]
 
 
-class Several(Joined):
-    """The base of All and Any, not made itself."""
+class All(Joined):
+    """Each one of some sayings holds."""
+
+    WORD = "all"
 
     def __init__(self, *sayings):
         _check_sayings(sayings)
@@ -265,12 +267,6 @@ class Several(Joined):
         """The tuple of its arguments."""
         return self.sayings
 
-
-class All(Several):
-    """Each one of some sayings holds."""
-
-    WORD = "all"
-
     def made(self, given):
         """An All of other sayings."""
         return All(*given)
@@ -280,10 +276,19 @@ class All(Several):
         return all(truths)
 
 
-class Any(Several):
+class Any(Joined):
     """One of some sayings holds, or more of them."""
 
     WORD = "any"
+
+    def __init__(self, *sayings):
+        _check_sayings(sayings)
+        self.sayings = sayings
+        Joined.__init__(self, sayings)
+
+    def given(self):
+        """The tuple of its arguments."""
+        return self.sayings
 
     def made(self, given):
         """An Any of other sayings."""

@@ -123,8 +123,7 @@ class MakingTest(unittest.TestCase):
         for made, bases in ((At, (Comparing, Paired)), (Below, (Comparing, Paired)), (Between, (Comparing,)),
                             (Higher, (Levelled, Paired)), (Even, (Levelled, Paired)), (All, (Joined,)),
                             (Any, (Joined,)), (Not, (Joined,))):
-            told = [one for one in (Comparing, Levelled, Joined, Paired) if issubclass(made, one)]
-            self.assertEqual(set(told), set(bases))
+            self.assertEqual(made.__bases__, bases)
             self.assertTrue(issubclass(made, Saying))
         for one in (Comparing, Levelled, Joined):
             self.assertTrue(issubclass(one, Saying))
@@ -364,6 +363,8 @@ class ChangedTest(unittest.TestCase):
         for name in ("marks", "span", "deep", "parts", "__call__", "__and__", "__or__", "__invert__", "__eq__", "moved",
                      "mirrored", "truths"):
             self.assertIn(name, vars(Saying))
+        for one in (At, Below, Between, Higher, Even, All, Any, Not):
+            self.assertIn("__init__", vars(one))
         for one in (Saying, Comparing, Levelled, Joined, Paired, At, Below, Between, Higher, Even, All, Any, Not):
             self.assertEqual(one.__module__, "anyfifth.sayings")
 
