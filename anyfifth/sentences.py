@@ -13,7 +13,10 @@ from anyfifth.truths import tree_of
 
 
 class Sentence:
-    """The base of Some and Each, not made itself. It never changes."""
+    """The base of Some and Each, not made itself. It never changes.
+
+    The region stands in the bodies of Some and Each, too, since they are what is made.
+    """
 
     def __init__(self, saying, start):
         if not isinstance(saying, Saying):
@@ -49,12 +52,20 @@ class Some(Sentence):
     def __init__(self, saying, start=None):
         Sentence.__init__(self, saying, start)
 
+    def region(self):
+        """The Region of the fifths at which it is true."""
+        return region_by(self, paper(self))
+
 
 class Each(Sentence):
     """A saying holds for each number, from start on if there is one."""
 
     def __init__(self, saying, start=None):
         Sentence.__init__(self, saying, start)
+
+    def region(self):
+        """The Region of the fifths at which it is true."""
+        return region_by(self, paper(self))
 
 
 class Verdict:

@@ -113,6 +113,8 @@ class SentenceTest(unittest.TestCase):
     def test_each_method_stands_in_the_class(self):
         for name in ("__call__", "region", "__invert__", "__eq__"):
             self.assertIn(name, vars(Sentence))
+        for name, one in itertools.product(("__init__", "region"), (Some, Each)):
+            self.assertIn(name, vars(one))
         for name in ("__bool__", "__eq__"):
             self.assertIn(name, vars(Verdict))
         for one in (Sentence, Some, Each, Verdict, Holds, Fails, judge, paper):
