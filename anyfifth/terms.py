@@ -7,7 +7,10 @@ from anyfifth.tones import Tone
 
 
 class Term:
-    """A note that a saying speaks of: the base of Note and Moving, not made itself. It never changes."""
+    """A note that a saying speaks of: the base of Note and Moving, not made itself. It never changes.
+
+    What the interface lists for a term stands in the bodies of Note and Moving, too, since they are what is made.
+    """
 
     def __init__(self, number):
         if not is_from_to(number, -12, 12):
@@ -51,9 +54,57 @@ class Term:
 class Note(Term):
     """The note with this number, whatever n is."""
 
+    def __init__(self, number):
+        Term.__init__(self, number)
+
+    @property
+    def is_moving(self):
+        """Whether it is note n + number: it is not."""
+        return False
+
+    def note(self, n):
+        """The number of its note for n."""
+        return super().note(n)
+
+    def position(self, n, fifth):
+        """The position of its note for n at a fraction."""
+        return super().position(n, fifth)
+
+    def moved(self, number):
+        """A Note with so much more."""
+        return super().moved(number)
+
+    def mirrored(self):
+        """The Note with the negative number."""
+        return super().mirrored()
+
 
 class Moving(Term):
     """Note n + number."""
+
+    def __init__(self, number):
+        Term.__init__(self, number)
+
+    @property
+    def is_moving(self):
+        """Whether it is note n + number: it is."""
+        return True
+
+    def note(self, n):
+        """The number of its note for n."""
+        return super().note(n)
+
+    def position(self, n, fifth):
+        """The position of its note for n at a fraction."""
+        return super().position(n, fifth)
+
+    def moved(self, number):
+        """A Moving with so much more."""
+        return super().moved(number)
+
+    def mirrored(self):
+        """The Moving with the negative number."""
+        return super().mirrored()
 
 
 class Height:

@@ -37,7 +37,9 @@ scales Scale.__getitem__ Scale.__setitem__ Scale.drop(k) Scale.put(number) Scale
 scales Scale.__add__ Scale.__neg__ Scale.twin() Scale.__call__(fifth) Scale.groups(fifth) Scale.ordered(piece)
 scales Scale.steps(piece) Scale.apart() Scale.order_region(numbers) Scale.__eq__ Scale.__str__ Scale.read(text)
 terms Term Note(number) Moving(number) Term.is_moving Term.note(n) Term.position(n,fifth) Term.moved(number)
-terms Term.mirrored() Term.__eq__ Height(tone,term) Height.pitch(n,fifth) Height.moved(number) Height.mirrored() Height.__eq__
+terms Term.mirrored() Term.__eq__ Note.is_moving Note.note(n) Note.position(n,fifth) Note.moved(number) Note.mirrored()
+terms Moving.is_moving Moving.note(n) Moving.position(n,fifth) Moving.moved(number) Moving.mirrored()
+terms Height(tone,term) Height.pitch(n,fifth) Height.moved(number) Height.mirrored() Height.__eq__
 sayings Saying Comparing Levelled Joined Paired At(one,other) Below(one,other) Between(first,inside,last)
 sayings Higher(one,other) Even(one,other) All(*sayings) Any(*sayings) Not(saying) Saying.MOST Saying.MOST_DEEP
 sayings Saying.MOST_SPAN Saying.marks Saying.span Saying.deep Saying.parts() Saying.__call__(n,fifth) Saying.__and__
@@ -46,7 +48,7 @@ tallies settled(saying) tally(saying) Tally Tally.parts() Tally.backward() Tally
 tallies Tally.__call__(fifth) Tally.part_at(fifth) Tally.__eq__ Tally.mirrored() Part(piece,x,y,z,share) Part.count(u,v)
 tallies Part.__eq__ count(saying,fifth) holding(saying,fifth) share(saying,piece)
 sentences Sentence Some(saying,start=None) Each(saying,start=None) Sentence.__call__(fifth) Sentence.region()
-sentences Sentence.__invert__ Sentence.__eq__ judge(sentence,where=None) Verdict Verdict.__bool__ Verdict.__eq__
+sentences Sentence.__invert__ Sentence.__eq__ Some.region() Each.region() judge(sentence,where=None) Verdict Verdict.__bool__ Verdict.__eq__
 sentences Holds() Fails(fifth,n,piece) paper(sentence)
 firsts first_n(saying,fifth,start=0) last_n(saying,fifth,start=0) how_many(saying,fifth,begin,end)
 firsts nth(saying,fifth,k,start=0) first_in(fifth,low,high,start=0)
@@ -117,6 +119,9 @@ class DocumentTest(unittest.TestCase):
         if told in ("NoDivisor()", "NoChange()", "Holds()"):
             self.assertIsInstance(value(), value)
         elif given:
+            if inspect.isclass(value):
+                # How a class is made is told of this class, not of a base.
+                self.assertIn("__init__", vars(value), told)
             row = list(inspect.signature(value).parameters.values())
             # A method that is read off its class has its own object ahead of its arguments.
             row = [one for one in row if one.name != "self"]

@@ -18,7 +18,7 @@ METHODS = {
 BUILTINS = {
     "len", "range", "enumerate", "zip", "min", "max", "sum", "abs", "sorted", "reversed", "int", "str", "bool",
     "list", "tuple", "dict", "set", "isinstance", "ord", "repr", "any", "all", "divmod", "ValueError",
-    "NotImplemented", "TypeError", "iter",
+    "NotImplemented", "TypeError", "iter", "super",
 }
 BUILTIN_METHODS = {
     "append", "extend", "pop", "index", "items", "values", "join", "split", "partition", "strip", "startswith",
@@ -200,6 +200,17 @@ class LanguageTest(unittest.TestCase):
                     if isinstance(call.func, ast.Attribute) and call.func.attr == "__init__":
                         self.assertIn(ast.unparse(call.func.value), bases, (name, call.lineno))
                         self.assertEqual(ast.unparse(call.args[0]), "self", (name, call.lineno))
+
+    def test_super_is_asked_for_plain_methods_alone(self):
+        plain = set()
+        for name, tree in self.each_tree():
+            plain |= {one.name for one in nodes(tree, ast.FunctionDef) if kind_of(one) == "plain"}
+        for name, tree in self.each_tree():
+            asked = [one.func.value for one in nodes(tree, ast.Call) if isinstance(one.func, ast.Attribute)
+                     and one.func.attr in plain and not one.func.attr.startswith("__")]
+            for one in calls_of(tree, "super"):
+                self.assertEqual(ast.unparse(one), "super()", (name, one.lineno))
+                self.assertIn(one, asked, (name, one.lineno))
 
     def test_no_property_stands_behind_a_star(self):
         properties = set()

@@ -103,6 +103,9 @@ class TermTest(unittest.TestCase):
     def test_each_method_stands_in_the_class(self):
         for name in ("is_moving", "note", "position", "moved", "mirrored", "__eq__"):
             self.assertIn(name, vars(Term))
+        for name in ("__init__", "is_moving", "note", "position", "moved", "mirrored"):
+            self.assertIn(name, vars(Note))
+            self.assertIn(name, vars(Moving))
         for name in ("pitch", "moved", "mirrored", "__eq__"):
             self.assertIn(name, vars(Height))
         self.assertEqual([one.__module__ for one in (Term, Note, Moving, Height)], ["anyfifth.terms"] * 4)
